@@ -1,0 +1,1 @@
+"""Bookstogether: a store whose parts are rule books, judged together."""

@@ -1,0 +1,108 @@
+"""Worlds, conditions and rows for the tests."""
+
+import random
+
+from bookstogether.rows import VALUES
+from bookstogether.worlds import World
+
+ALWAYS = ("always",)
+NEVER = ("not", ("always",))
+
+ROWS = [(a, b, c) for a in VALUES for b in VALUES for c in VALUES]
+
+WORLD = World(
+    ["a", "b"],
+    [
+        ("p", "a", 0, ALWAYS),
+        ("q", "a", 1, ("equal", 2, 1)),
+        ("r", "b", 2, ("not", ("unknown", 0))),
+    ],
+)
+
+
+def deep(levels):
+    """A condition of exactly so many levels."""
+    condition = ("equal", 0, 1)
+    for at in range(levels - 1):
+        condition = (("not", condition), ("and", ALWAYS, condition), ("or", condition, ALWAYS))[at % 3]
+    return condition
+
+
+def random_condition(chance, levels, quotients=False):
+    """A condition of at most so many levels."""
+    words = ["always", "equal", "below", "unknown"] + ["quotient"] * quotients
+    if levels > 1:
+        words += ["not", "and", "or"] * 2
+    word = chance.choice(words)
+    column = chance.randrange(3)
+    if word == "always":
+        return (word,)
+    if word == "unknown":
+        return (word, column)
+    if word == "quotient":
+        return (word, column, chance.randrange(3), chance.randrange(3))
+    if word in ("equal", "below"):
+        return (word, column, chance.randrange(3))
+    parts = [random_condition(chance, levels - 1, quotients) for _ in range(1 if word == "not" else 2)]
+    return (word, *parts)
+
+
+def random_row(chance):
+    return tuple(chance.choice(VALUES) for _ in range(3))
+
+
+def random_world(chance):
+    """A world of two tables with up to two rules on each."""
+    rules = []
+    for table in ("a", "b"):
+        for at in range(chance.randrange(3)):
+            condition = random_condition(chance, 3)
+            rules.append((f"{table}{'pq'[at]}", table, chance.randrange(3), condition))
+    chance.shuffle(rules)
+    return World(("a", "b"), rules)
+
+
+def chances(count, seed):
+    """Random sources, the same ones in each run of the tests."""
+    return [random.Random(f"{seed} {at}") for at in range(count)]
+
+
+def plain_truth(condition, row):
+    """The truth of a condition as 0, 1 or 2, or "error"; told in another way than the program does."""
+    word = condition[0]
+    if word == "always":
+        return 2
+    if word == "unknown":
+        return 2 if row[condition[1]] is None else 0
+    if word in ("equal", "below"):
+        value = row[condition[1]]
+        if value is None:
+            return 1
+        return 2 * int(value == condition[2] if word == "equal" else value < condition[2])
+    if word == "quotient":
+        top, low = row[condition[1]], row[condition[2]]
+        if low == 0:
+            return "error"
+        if top is None or low is None:
+            return 1
+        return 2 * int(int(top / low) == condition[3])
+    left = plain_truth(condition[1], row)
+    if left == "error":
+        return "error"
+    if word == "not":
+        return 2 - left
+    if left == (0 if word == "and" else 2):
+        return left
+    right = plain_truth(condition[2], row)
+    if right == "error":
+        return "error"
+    return min(left, right) if word == "and" else max(left, right)
+
+
+def plain_group(rule, row):
+    """The group of a row under a rule, told without the program."""
+    return row[rule[2]] if plain_truth(rule[3], row) == 2 else None
+
+
+def plain_clash(rule, row, other):
+    return plain_group(rule, row) is not None and plain_group(rule, row) == plain_group(rule, other)
