@@ -1,18 +1,18 @@
 """Conditions and their truth for a row."""
 
 from bookstogether.errors import InvalidCondition, ZeroDivisor
-from bookstogether.rows import COLUMNS
 from bookstogether.truth import Truth
 
-KNOWN = (0, 1, 2)
+# Columns and values in a condition are the same numbers.
+NUMBERS = (0, 1, 2)
 
-# What stands behind each first word: "column", "known" (a known value) or "condition".
+# What stands behind each first word.
 PARTS = {
     "always": (),
-    "equal": ("column", "known"),
-    "below": ("column", "known"),
-    "unknown": ("column",),
-    "quotient": ("column", "column", "known"),
+    "equal": ("number", "number"),
+    "below": ("number", "number"),
+    "unknown": ("number",),
+    "quotient": ("number", "number", "number"),
     "not": ("condition",),
     "and": ("condition", "condition"),
     "or": ("condition", "condition"),
@@ -24,9 +24,7 @@ def _has_form(condition):
     if not isinstance(condition, tuple) or len(condition) == 0:
         return False
     word = condition[0]
-    if not isinstance(word, str) or word not in PARTS:
-        return False
-    return len(condition) == 1 + len(PARTS[word])
+    return word in PARTS and len(condition) == 1 + len(PARTS[word])
 
 
 def check_condition(condition, *, levels=10, quotients=True):
@@ -41,7 +39,7 @@ def check_condition(condition, *, levels=10, quotients=True):
     for kind, part in zip(PARTS[word], condition[1:]):
         if kind == "condition":
             check_condition(part, levels=levels - 1, quotients=quotients)
-        elif part not in (COLUMNS if kind == "column" else KNOWN):
+        elif part not in NUMBERS:
             raise InvalidCondition("a column or a value is not 0, 1 or 2")
 
 

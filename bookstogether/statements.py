@@ -28,7 +28,7 @@ def is_question(statement):
 
 def _has_form(statement):
     """Tell whether the first word and the number of the parts are those of a statement."""
-    if len(statement) == 0 or not isinstance(statement[0], str):
+    if len(statement) == 0:
         return False
     word = statement[0]
     return word in PARTS and len(statement) == 2 + len(PARTS[word])

@@ -34,6 +34,37 @@ FUNCTIONS = {
     },
     "statements": {"is_question": "(statement)", "check_statement": "(world, statement)"},
     "answers": {"answer": "(question, found)", "upserted": "(row, asked, sets)"},
+    "running": {"everyone": "(table, row)", "run_plainly": "(world, heap, statement, sees)"},
+    "stores": {"run_script": "(store, user, *statements)"},
+    "words": {"write_row": "(row)", "write_condition": "(condition)", "read_condition": "(text)"},
+    "texts": {
+        "write_statement": "(statement)",
+        "write_world": "(world)",
+        "write_store": "(store)",
+        "read_statement": "(text)",
+        "read_world": "(text)",
+        "read_store": "(world, text, sight=None)",
+    },
+    "upserting": {
+        "matched": "(book, rule, row, pairs, *, by_index)",
+        "target": "(lists)",
+        "upsert_tell": "(book, asked, old, new)",
+    },
+    "arbiters": {
+        "arbiter_gap": "(rule, column, condition, again)",
+        "arbiter_bounds": "(rule, column, again)",
+    },
+    "upsertoutcomes": {
+        "upsert_outcomes": "(world, statement, *, sees=None)",
+        "parting": "(world, first, second, *, sees=None)",
+        "least_names": "(world, statement, *, sees=None)",
+        "unsteady": "(world, statement, *, sees=None)",
+        "taken_back": "(rows, told)",
+    },
+    "upsertjudge": {"judge_upserts": "(world, book)"},
+    "indexbooks": {"index_group": "(index, row)"},
+    "entries": {"due_entries": "(index, heap)"},
+    "serving": {"span": "(book, index, condition)"},
 }
 
 # For each class its arguments, and the methods that stand in it.
@@ -48,6 +79,17 @@ CLASSES = {
         "()",
         "__len__ __contains__ __iter__ __getitem__ __setitem__ put write numbers pairs bag copy",
     ),
+    ("stores", "Store"): ("(world, sight=None)", "__len__ load run bag copy"),
+    ("upsertbooks", "UpsertBook"): (
+        "(*arbiters, again=True, sees='shown', tells='after')",
+        "MOST __len__ __contains__ __iter__ arbiter check lines from_lines",
+    ),
+    ("indexbooks", "Index"): ("(name, table, column, condition, rule='')", "of_rule as_rule holds"),
+    ("indexbooks", "IndexBook"): (
+        "(*indexes, writes='both', serves='implied')",
+        "MOST of_world from_lines index holder of_table check lines",
+    ),
+    ("entries", "Entries"): ("(book)", "touches fill write listed numbers twin copy"),
 }
 
 

@@ -26,6 +26,7 @@ class TestRows(unittest.TestCase):
         for row in rows.all_rows():
             self.assertIsNone(rows.check_row(row))
         wrong = [(), (0,), (0, 1), (0, 1, 2, 0), (0, 1, 3), (-1, 0, 0), (None, None, 3), ("0", 0, 0), ((), 0, 0)]
+        wrong += [[0, 1, 2], None]
         for row in wrong:
             with self.assertRaises(InvalidRow):
                 rows.check_row(row)

@@ -86,6 +86,7 @@ class TestStatements(unittest.TestCase):
         self.assertEqual([is_question(statement) for statement in RIGHT], [False] * 6 + [True] * 5)
         self.assertIs(is_question(RIGHT[0]), False)
         self.assertIs(is_question(RIGHT[-1]), True)
+        self.assertIs(is_question(()), False)
 
     def test_right_ones(self):
         for statement in RIGHT:
