@@ -35,3 +35,11 @@ def read_options(part, options, lines):
         chosen.append(reader.take_one_of(words))
     reader.end()
     return chosen
+
+
+def read_only_line(part, options, lines):
+    """Return the words that the one line of a part's book chooses, for a part whose books have one line."""
+    chosen = read_options(part, options, lines)
+    if len(lines) > 1:
+        raise InvalidText(lines[1][0])
+    return chosen

@@ -48,6 +48,15 @@ def check_standing_condition(condition):
     check_condition(condition, levels=6, quotients=False)
 
 
+def may_stand(condition):
+    """Tell whether a tuple is a condition that may stand in a rule, an index, a hiding rule or a summary."""
+    try:
+        check_standing_condition(condition)
+    except InvalidCondition:
+        return False
+    return True
+
+
 def truth(condition, row):
     """Return the truth value of a condition for a row."""
     word = condition[0]

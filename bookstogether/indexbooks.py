@@ -1,8 +1,8 @@
 """Partial indexes and their book."""
 
 from bookstogether.booklines import check_option, read_options, write_options
-from bookstogether.conditions import check_standing_condition, truth
-from bookstogether.errors import InvalidBook, InvalidCondition, UnknownIndex
+from bookstogether.conditions import may_stand, truth
+from bookstogether.errors import InvalidBook, UnknownIndex
 from bookstogether.names import is_name
 from bookstogether.rows import COLUMNS
 from bookstogether.words import MISSING, LineReader, write_condition
@@ -109,11 +109,7 @@ def _fits(world, index):
         return False
     if index.rule != "" and index.rule not in [rule[0] for rule in world.rules_of(index.table)]:
         return False
-    try:
-        check_standing_condition(index.condition)
-    except InvalidCondition:
-        return False
-    return True
+    return may_stand(index.condition)
 
 
 def _write_index(index):

@@ -1,10 +1,11 @@
-"""Names."""
+"""Names and users."""
 
 from bookstogether.errors import InvalidName
 
 LETTERS = "abcdefghijklmnopqrstuvwxyz"
 LONGEST = 8
 RESERVED = ("on", "set", "new")
+USERS = (0, 1, 2)
 
 
 def is_name(name):

@@ -3,7 +3,7 @@
 from bookstogether.conditions import check_standing_condition, truth
 from bookstogether.errors import InvalidWorld, UnknownRule, UnknownTable
 from bookstogether.names import check_name
-from bookstogether.rows import COLUMNS
+from bookstogether.rows import COLUMNS, all_rows
 
 
 class World:
@@ -83,3 +83,12 @@ def first_clash(rules, row, others):
         if own is not None and own in [group(rule, other) for other in others]:
             return rule[0]
     return ""
+
+
+def first_grouped(world):
+    """Return the name of the first rule that has a group for a row, with the first such row, or None."""
+    for rule in world.rules:
+        for row in all_rows():
+            if group(rule, row) is not None:
+                return (rule[0], row)
+    return None

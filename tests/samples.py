@@ -2,6 +2,7 @@
 
 import random
 
+from bookstogether.heaps import Heap
 from bookstogether.rows import VALUES
 from bookstogether.worlds import World
 
@@ -62,6 +63,24 @@ def random_world(chance):
     return World(("a", "b"), rules)
 
 
+def random_statement(chance, world):
+    table = chance.choice(("a", "b"))
+    word = chance.choice(("put", "put", "change", "remove", "upsert", "upsert", "count"))
+    condition = random_condition(chance, 3, quotients=True)
+    if word == "put":
+        return (word, table, random_row(chance))
+    if word == "change":
+        return (word, table, condition, chance.randrange(3), chance.choice((None, 0, 1, 2)))
+    if word == "remove":
+        return (word, table, ("and", condition, ("equal", chance.randrange(3), chance.randrange(3))))
+    if word == "count":
+        return (word, table, condition, "")
+    names = [rule[0] for rule in world.rules if rule[1] == table]
+    columns = chance.sample(range(3), chance.randrange(4))
+    sets = tuple((column, chance.choice((None, 0, 1, 2, "new"))) for column in columns)
+    return (word, table, random_row(chance), tuple(chance.sample(names, chance.randrange(len(names) + 1))), sets)
+
+
 def chances(count, seed):
     """Random sources, the same ones in each run of the tests."""
     return [random.Random(f"{seed} {at}") for at in range(count)]
@@ -106,3 +125,39 @@ def plain_group(rule, row):
 
 def plain_clash(rule, row, other):
     return plain_group(rule, row) is not None and plain_group(rule, row) == plain_group(rule, other)
+
+
+def plain_outcome(condition, row):
+    """The outcome of a condition for a row, told without the program."""
+    told = plain_truth(condition, row)
+    return told if told == "error" else ("false", "unknown", "true")[told]
+
+
+def random_heap(chance, count, tables=("a", "b")):
+    """A heap of at most so many rows, with numbers left out between them; rows may clash."""
+    heap = Heap()
+    for _ in range(count):
+        number = heap.put(chance.choice(tables), random_row(chance))
+        if chance.randrange(4) == 0:
+            heap.write(heap[number][0], number, None)
+    return heap
+
+
+def random_question(chance, world, levels=3):
+    """A question of any kind about a table of the world."""
+    word = chance.choice(("rows", "count", "sum", "greatest"))
+    columns = (chance.randrange(3),) if word in ("sum", "greatest") else ()
+    condition = random_condition(chance, levels, quotients=True)
+    return (word, chance.choice(world.tables), condition, *columns, "")
+
+
+def random_rules(chance, users=(0, 1, 2), tables=("a", "b")):
+    """Hiding rules, of which no two are for one user and table."""
+    places = [(user, table) for user in users for table in tables]
+    chosen = chance.sample(places, chance.randrange(len(places) + 1))
+    return [(user, table, random_condition(chance, 3)) for user, table in chosen]
+
+
+def numbered(*lines, start=1):
+    """Lines with their numbers, as books read them."""
+    return list(enumerate(lines, start=start))

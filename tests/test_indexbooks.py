@@ -5,17 +5,13 @@ from bookstogether.indexbooks import Index, IndexBook, index_group
 from bookstogether.words import write_condition
 from bookstogether.worlds import World
 
-from tests.samples import ALWAYS, ROWS, WORLD, deep
+from tests.samples import ALWAYS, ROWS, WORLD, deep, numbered
 
 PLAIN = "indexes writes both serves implied"
 
 
 def index(name="i", table="a", column=0, condition=ALWAYS, rule=""):
     return Index(name, table, column, condition, rule)
-
-
-def numbered(*lines, start=1):
-    return list(enumerate(lines, start=start))
 
 
 def fields(one):

@@ -65,7 +65,44 @@ FUNCTIONS = {
     "indexbooks": {"index_group": "(index, row)"},
     "entries": {"due_entries": "(index, heap)"},
     "serving": {"span": "(book, index, condition)"},
+    "indexjudge": {"rules_gap": "(world, book)", "judge_indexes": "(world, book)"},
+    "indexchoices": {
+        "mattering": "(condition)",
+        "position_choices": "(count)",
+        "least_together": "(book, table, condition)",
+        "found_together": "(entries, heap, names, condition)",
+    },
+    "lockneeds": {
+        "compatible": "(mode, other)",
+        "meet": "(needs, other)",
+        "read_needs": "(book, table, road, numbers)",
+        "write_needs": "(book, table, number, nodes, keys)",
+    },
+    "lockjudge": {
+        "matters": "(question, old, new)",
+        "unguarded": "(book, question, road, marks)",
+        "judge_locks": "(world, book)",
+    },
+    "lockmeets": {"deed_needs": "(book, deed)", "looser_at": "(book, other)"},
+    "lockdeeds": {
+        "statement_deeds": "(world, heap, statement)",
+        "commute": "(world, heap, first, second)",
+    },
+    "lockweaving": {
+        "weave": "(book, *scripts, turns)",
+        "able": "(state, *scripts)",
+        "reached": "(state, *scripts)",
+        "ways": "(state, *scripts)",
+        "finishing": "(state, *scripts, nth=0)",
+    },
+    "passing": {
+        "passes": "(book, user, table, row, condition)",
+        "counted": "(book, user, table, rows)",
+    },
+    "guarding": {"certain": "(condition, *, turned=False)", "guarded": "(book, user, question)"},
 }
+
+GENERATORS = {("rows", "all_rows"), ("indexchoices", "position_choices"), ("lockweaving", "reached")}
 
 # For each class its arguments, and the methods that stand in it.
 CLASSES = {
@@ -90,6 +127,16 @@ CLASSES = {
         "MOST of_world from_lines index holder of_table check lines",
     ),
     ("entries", "Entries"): ("(book)", "touches fill write listed numbers twin copy"),
+    ("lockbooks", "LockBook"): (
+        "(*, read='alone', write='store', marks='holding', checks='key', kept='node', asks='ahead', lasts='end',"
+        " clash='wait')",
+        "check lines from_lines",
+    ),
+    ("locktables", "LockTable"): ("(book)", "ask turn_over release clashing held age waiting ring"),
+    ("hidingbooks", "HidingBook"): (
+        "(*rules, first='hide', told='shown')",
+        "MOST __len__ __contains__ __iter__ check lines from_lines",
+    ),
 }
 
 
@@ -105,6 +152,7 @@ class TestInterface(unittest.TestCase):
                 found = getattr(module, function)
                 self.assertEqual(signature(found), arguments, function)
                 self.assertEqual(found.__module__, module.__name__, function)
+                self.assertEqual(inspect.isgeneratorfunction(found), (name, function) in GENERATORS, function)
 
     def test_classes(self):
         for (name, word), (arguments, methods) in CLASSES.items():

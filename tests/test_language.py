@@ -21,16 +21,18 @@ STATEMENTS = (
 )
 BUILTINS = set(
     "len range enumerate zip min max sum abs sorted reversed int str bool list tuple dict set isinstance ord repr"
-    " any all divmod iter ValueError NotImplemented True False None property staticmethod classmethod".split()
+    " any all divmod iter ValueError NotImplemented True False None property staticmethod classmethod super".split()
 )
 METHODS = set(
     "init eq repr str len call iter lt le gt ge ne add sub mul floordiv mod and or xor neg pos invert abs bool"
     " contains getitem setitem".split()
 )
 NOWHERE = set(
-    "register mro elements open input law version_info with_traceback add_note keys format format_map _wall"
+    "register mro elements open input law version_info with_traceback add_note format format_map _wall"
     " args encode decode".split()
 )
+# Names that a variable may have, but no method and no attribute.
+NO_ATTRIBUTES = NOWHERE | set("keys items values pop update append clear extend insert remove reverse sort".split())
 WORDS = re.compile(
     r"\b(type|typing|typing_extensions|enum|Enum|IntEnum|StrEnum|Flag|IntFlag|Generic|Protocol|ABC|ABCMeta|"
     r"namedtuple|NamedTuple|TypedDict|TYPE_CHECKING|abstractmethod|Meta)\b|dataclass|overload|contextmanager"
@@ -158,7 +160,10 @@ class TestLanguage(unittest.TestCase):
             if node.name.startswith("__"):
                 self.assertIn(node.name.strip("_"), METHODS, where)
         for path, node in walk(ast.Attribute):
-            self.assertFalse(node.attr.startswith("__"), self.place(path, node))
+            if node.attr == "__init__":
+                self.assertEqual(ast.unparse(node.value), "super()", self.place(path, node))
+            else:
+                self.assertFalse(node.attr.startswith("__"), self.place(path, node))
 
     def test_names(self):
         taken = set(dir(builtins))
@@ -168,12 +173,12 @@ class TestLanguage(unittest.TestCase):
                 if isinstance(node, ast.Name) and isinstance(node.ctx, (ast.Store, ast.Del)):
                     self.assertNotIn(node.id, taken | NOWHERE, where)
                 elif isinstance(node, (ast.FunctionDef, ast.ClassDef)):
-                    self.assertNotIn(node.name, NOWHERE, where)
+                    self.assertNotIn(node.name, NOWHERE | {"keys"}, where)
                     self.assertNotIn(node.name, BUILTINS, where)
                 elif isinstance(node, ast.arg):
                     self.assertNotIn(node.arg, taken | NOWHERE, where)
                 elif isinstance(node, ast.Attribute) and isinstance(node.ctx, ast.Store):
-                    self.assertNotIn(node.attr, NOWHERE, where)
+                    self.assertNotIn(node.attr, NO_ATTRIBUTES, where)
 
     def test_builtins(self):
         for path, tree in TREES.items():
@@ -242,6 +247,31 @@ class TestLanguage(unittest.TestCase):
                 item.attr for item in ast.walk(node) if isinstance(item, ast.Attribute) and isinstance(item.ctx, ast.Store)
             }
             self.assertEqual(methods & stored, set(), self.place(path, node))
+
+    def test_no_attribute_has_the_name_of_a_property(self):
+        decorated = [(node.name, [ast.unparse(item) for item in node.decorator_list]) for _, node in walk(ast.FunctionDef)]
+        properties = {name for name, decorators in decorated if "property" in decorators}
+        self.assertIn("as_rule", properties)
+        for path, node in walk(ast.Attribute):
+            if isinstance(node.ctx, ast.Store):
+                self.assertNotIn(node.attr, properties, self.place(path, node))
+
+    def test_generators_are_iterated_at_once(self):
+        generators = {
+            node.name for _, node in walk(ast.FunctionDef) if any(isinstance(item, ast.Yield) for item in ast.walk(node))
+        }
+        for path, tree in TREES.items():
+            above = parents(tree)
+            for node in ast.walk(tree):
+                if isinstance(node, ast.Name) and node.id in generators:
+                    call = above[node]
+                    self.assertIsInstance(call, ast.Call, self.place(path, node))
+                    user = above[call]
+                    looped = isinstance(user, (ast.For, ast.comprehension)) and user.iter is call
+                    self.assertTrue(looped or ast.unparse(user).startswith("list("), self.place(path, node))
+        names = [node.name for _, node in walk(ast.FunctionDef)]
+        for name in generators:
+            self.assertEqual(names.count(name), 1, name)
 
     def test_default_values_are_plain(self):
         for path, node in walk(ast.FunctionDef):

@@ -5,7 +5,7 @@ from bookstogether.rows import row_key
 from bookstogether.running import everyone, run_plainly
 from bookstogether.worlds import World
 
-from tests.samples import ALWAYS, NEVER, chances, plain_clash, plain_truth, random_condition, random_row, random_world
+from tests.samples import ALWAYS, NEVER, chances, plain_clash, plain_truth, random_condition, random_statement, random_world
 
 # Rule p groups column 0, rule q column 1, both for all rows of a.
 WORLD = World(["a", "b"], [("p", "a", 0, ALWAYS), ("q", "a", 1, ALWAYS)])
@@ -284,24 +284,6 @@ def second_run(world, pairs, fresh, statement, sees):
         return ("removed" if word == "remove" else "changed", len(numbers)), rows
     except Refused as refused:
         return ("refused", *refused.args), dict(pairs)
-
-
-def random_statement(chance, world):
-    table = chance.choice(("a", "b"))
-    word = chance.choice(("put", "put", "change", "remove", "upsert", "upsert", "count"))
-    condition = random_condition(chance, 3, quotients=True)
-    if word == "put":
-        return (word, table, random_row(chance))
-    if word == "change":
-        return (word, table, condition, chance.randrange(3), chance.choice((None, 0, 1, 2)))
-    if word == "remove":
-        return (word, table, ("and", condition, ("equal", chance.randrange(3), chance.randrange(3))))
-    if word == "count":
-        return (word, table, condition, "")
-    names = [rule[0] for rule in world.rules if rule[1] == table]
-    columns = chance.sample(range(3), chance.randrange(4))
-    sets = tuple((column, chance.choice((None, 0, 1, 2, "new"))) for column in columns)
-    return (word, table, random_row(chance), tuple(chance.sample(names, chance.randrange(len(names) + 1))), sets)
 
 
 class TestAgainstASecondTelling(Case):

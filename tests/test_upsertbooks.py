@@ -3,13 +3,9 @@ import unittest
 from bookstogether.errors import InvalidBook, InvalidText
 from bookstogether.upsertbooks import UpsertBook
 
-from tests.samples import WORLD
+from tests.samples import WORLD, numbered
 
 PLAIN = "upserts again yes sees shown tells after"
-
-
-def numbered(*lines, start=1):
-    return list(enumerate(lines, start=start))
 
 
 class TestUpsertBook(unittest.TestCase):
