@@ -100,9 +100,47 @@ FUNCTIONS = {
         "counted": "(book, user, table, rows)",
     },
     "guarding": {"certain": "(condition, *, turned=False)", "guarded": "(book, user, question)"},
+    "viewing": {
+        "view": "(sight, user, heap, table)",
+        "seem_alike": "(world, sight, user, heap, other)",
+        "ask_table": "(book, user, heap, question)",
+        "revealing": "(book, user, question, *, looks=False)",
+        "exposed": "(book, user, table)",
+        "probe": "(table, row)",
+        "parting_question": "(world, book, user, heap, other, *, looks=False)",
+    },
+    "evening": {
+        "uneven": "(world, sight)",
+        "evened": "(world, sight, user, table)",
+        "wider": "(world, first, second)",
+    },
+    "hidingjudge": {"judge_hiding": "(world, book)"},
+    "looking": {
+        "look_count": "(book, looked, found)",
+        "claimed": "(book, name)",
+        "exceeds": "(book, name, span, looks)",
+    },
+    "packing": {
+        "row_groups": "(world, table, row)",
+        "fullest": "(world, table, rows, *, size)",
+        "most_looks": "(world, table, rows, *, size)",
+        "guard": "(world, table, rows)",
+    },
+    "roads": {
+        "road_rows": "(column, condition, span=(None, 0, 1, 2))",
+        "best_road": "(world, table, roads, *, size)",
+        "claim_gap": "(world, table, column, condition, most)",
+        "least_claim": "(world, table, column, condition)",
+        "claim_rules": "(world, table, column, condition, most)",
+    },
+    "lookjudge": {"counts_gap": "(condition)", "judge_looks": "(world, book)"},
+    "summarybooks": {"share_at": "(question, row)", "greatest_known": "(shares)"},
+    "likeness": {"serves": "(book, summary, sight, user, question)"},
 }
 
-GENERATORS = {("rows", "all_rows"), ("indexchoices", "position_choices"), ("lockweaving", "reached")}
+GENERATORS = {
+    ("rows", "all_rows"), ("indexchoices", "position_choices"), ("lockweaving", "reached"), ("viewing", "exposed"),
+}
 
 # For each class its arguments, and the methods that stand in it.
 CLASSES = {
@@ -137,6 +175,35 @@ CLASSES = {
         "(*rules, first='hide', told='shown')",
         "MOST __len__ __contains__ __iter__ check lines from_lines",
     ),
+    ("evening", "EvenSight"): ("(world, sight)", "__call__"),
+    ("lookbooks", "LookBook"): ("(*claims, tells=False, counts='looked')", "MOST from_lines check lines"),
+    ("summarybooks", "Summary"): ("(name, table, kind, column, condition)", "question share due_amount"),
+    ("summarybooks", "SummaryBook"): (
+        "(*summaries, edges=(), alike='shown', undo='difference', greatest='write')",
+        "MOST summary of_table check lines from_lines",
+    ),
+    ("totals", "Totals"): (
+        "(book, heap)",
+        "fill settle write add restore current is_open saved changes differences",
+    ),
+    ("totals", "GreatestOnly"): ("(totals)", "write"),
+}
+
+# The arguments of methods, without the first one.
+METHODS = {
+    ("heaps", "Heap", "write"): "(table, number, row)",
+    ("entries", "Entries", "write"): "(table, number, old, new)",
+    ("entries", "Entries", "twin"): "(name, row, number)",
+    ("locktables", "LockTable", "ask"): "(user, needs)",
+    ("locktables", "LockTable", "clashing"): "(user, needs)",
+    ("evening", "EvenSight", "__call__"): "(user, table, row)",
+    ("summarybooks", "Summary", "due_amount"): "(rows)",
+    ("totals", "Totals", "write"): "(table, number, old, new)",
+    ("totals", "Totals", "changes"): "(table, old, new)",
+    ("totals", "Totals", "differences"): "(table, old, new)",
+    ("totals", "Totals", "add"): "(name, difference)",
+    ("totals", "Totals", "restore"): "(name, pair)",
+    ("totals", "GreatestOnly", "write"): "(table, number, old, new)",
 }
 
 
@@ -162,3 +229,8 @@ class TestInterface(unittest.TestCase):
             self.assertEqual(found.__module__, module.__name__, word)
             for method in methods.split():
                 self.assertIn(method, vars(found), word)
+
+    def test_methods(self):
+        for (name, word, method), arguments in METHODS.items():
+            found = getattr(importlib.import_module(f"bookstogether.{name}"), word)
+            self.assertEqual(signature(getattr(found, method)).replace("self, ", ""), arguments, (word, method))
