@@ -50,14 +50,12 @@ class EvenSight(Sight):
         super().__init__(*sight.rules)
         self.world = world
         self.sight = sight
-        # The rows that are shown, for each user and table that were asked for.
-        self.shown = {}
+        self.shown = {(user, table): evened(world, sight, user, table) for user in USERS for table in world}
 
     def __call__(self, user, table, row):
         place = (user, table)
-        if place not in self.shown:
-            self.shown[place] = evened(self.world, self.sight, user, table)
-        return row in self.shown[place]
+        shown = self.shown[place] if place in self.shown else evened(self.world, self.sight, user, table)
+        return row in shown
 
 
 def wider(world, first, second):

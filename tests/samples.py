@@ -133,6 +133,19 @@ def plain_outcome(condition, row):
     return told if told == "error" else ("false", "unknown", "true")[told]
 
 
+def plain_shown(rules, user, table, row):
+    """Whether hiding rules show a row of a table to a user, told without the program."""
+    return all(plain_truth(part, row) == 2 for who, where, part in rules if (who, where) == (user, table))
+
+
+TOGETHER = {("s", "s"), ("s", "is"), ("is", "s"), ("is", "is"), ("is", "ix"), ("ix", "is"), ("ix", "ix")}
+
+
+def plain_meet(needs, other):
+    """Whether two lists of needs meet, told by all pairs."""
+    return any(node == beside and (mode, held) not in TOGETHER for node, mode in needs for beside, held in other)
+
+
 def random_heap(chance, count, tables=("a", "b")):
     """A heap of at most so many rows, with numbers left out between them; rows may clash."""
     heap = Heap()

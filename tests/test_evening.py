@@ -6,7 +6,7 @@ from bookstogether.sights import Sight
 from bookstogether.stores import Store
 from bookstogether.worlds import World
 
-from tests.samples import ALWAYS, NEVER, ROWS, chances, plain_clash, plain_outcome, random_condition, random_rules
+from tests.samples import ALWAYS, NEVER, ROWS, chances, plain_clash, plain_shown, random_condition, random_rules
 from tests.samples import random_statement, random_world
 
 # The groups of p in table `a` are the values of column 0, those of q in table `b` the values of column 1.
@@ -176,8 +176,8 @@ class TestEvenSight(unittest.TestCase):
                 store.run(chance.randrange(3), random_statement(chance, world))
             for rule in world.rules:
                 rows = store.bag(rule[1])
-                clashes = [(at, to) for to in range(len(rows)) for at in range(to) if plain_clash(rule, rows[at], rows[to])]
-                self.assertEqual(clashes, [])
+                pairs = [(rows[at], rows[to]) for to in range(len(rows)) for at in range(to)]
+                self.assertEqual([pair for pair in pairs if plain_clash(rule, *pair)], [])
 
     def test_deep_rules(self):
         deep = ("below", 0, 1)
@@ -212,10 +212,6 @@ class TestWider(unittest.TestCase):
             for user in USERS:
                 for table in ("a", "b"):
                     for row in ROWS:
-                        shown = [
-                            all(plain_outcome(part, row) == "true" for who, where, part in own if (who, where) == (user, table))
-                            for own in pair
-                        ]
-                        if shown == [True, False]:
+                        if [plain_shown(own, user, table, row) for own in pair] == [True, False]:
                             told.append((user, table, row))
             self.assertEqual(wider(WORLD, Sight(*pair[0]), Sight(*pair[1])), told[0] if told else None)

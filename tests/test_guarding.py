@@ -82,7 +82,8 @@ class TestGuarded(unittest.TestCase):
             self.assertEqual(told[:2] + told[3:], question[:2] + question[3:])
             word, left, right = told[2]
             self.assertEqual((word, right), ("and", question[2]))
-            self.assertEqual([plain_outcome(left, row) for row in ROWS], ["true" if row[0] == 0 else "false" for row in ROWS])
+            for row in ROWS:
+                self.assertEqual(plain_outcome(left, row), "true" if row[0] == 0 else "false")
 
     def test_levels(self):
         book = HidingBook((1, "a", wide(6)))

@@ -51,8 +51,9 @@ class TestHidingBook(BookCase):
         for rules in ([], RULES, [(2, "b", deep(6))]):
             self.assertIsNone(HidingBook(*rules).check(WORLD))
         for rule in (
-            (3, "a", ALWAYS), (-1, "a", ALWAYS), (None, "a", ALWAYS), (0, "c", ALWAYS), (0, "", ALWAYS), (0, "a", deep(7)),
-            (0, "a", ("quotient", 0, 1, 0)), (0, "a", ("not", ("quotient", 0, 1, 0))), (0, "a", ("equal", 0, None)),
+            (3, "a", ALWAYS), (-1, "a", ALWAYS), (None, "a", ALWAYS), (0, "c", ALWAYS), (0, "", ALWAYS),
+            (0, "a", deep(7)), (0, "a", ("quotient", 0, 1, 0)), (0, "a", ("not", ("quotient", 0, 1, 0))),
+            (0, "a", ("equal", 0, None)),
             (0, "a", ("equal", 3, 0)), (0, "a", ()), (0, "a", ("strange",)),
         ):
             self.misfit(WORLD, rule)
@@ -71,8 +72,9 @@ class TestHidingBook(BookCase):
         self.bad_first_lines(PLAIN)
         self.bad_line(0, "hiding told shown first hide")
         for line in (
-            "", "hide", "hide 0", "hide 0 a", "hide 3 a always", "hide 00 a always", "hide ? a always", "hide - a always",
-            "hide a 0 always", "hide 0 on always", "hide 0 - always", "hide 0 a never", "hide 0 a always always",
+            "", "hide", "hide 0", "hide 0 a", "hide 3 a always", "hide 00 a always", "hide ? a always",
+            "hide - a always", "hide a 0 always", "hide 0 on always", "hide 0 - always", "hide 0 a never",
+            "hide 0 a always always",
             "hide 0 a always ", "hide  0 a always", " hide 0 a always", "hide 0 a equal 0", "hide 0 a equal 0 3",
             "hiding first hide told shown", "rule 0 a always", "hide 0 a " + write_condition(deep(11)),
         ):

@@ -161,10 +161,12 @@ class TestJudgeIndexes(unittest.TestCase):
 
     def test_errors(self):
         self.assertEqual(self.findings(Index("i", "a", 1, NEVER), serves="true"), (("errors", "i"),))
-        self.assertEqual(self.findings(Index("j", "a", 1, NEVER), Index("i", "a", 1, NEVER), serves="true"), (("errors", "j"),))
+        indexes = [Index("j", "a", 1, NEVER), Index("i", "a", 1, ALWAYS)]
+        self.assertEqual(self.findings(*indexes, serves="true"), (("errors", "j"),))
 
     def test_the_first_index_with_a_finding(self):
-        right, first, second = Index("i", "a", 1, NEVER), Index("j", "a", 1, ("equal", 0, 2)), Index("k", "a", 1, ALWAYS)
+        right, second = Index("i", "a", 1, NEVER), Index("k", "a", 1, ALWAYS)
+        first = Index("j", "a", 1, ("equal", 0, 2))
         self.assertEqual(self.findings(right, second, first, writes="column")[0][1], "j")
         self.assertEqual(self.findings(right, second, first, writes="put")[0][1], "k")
         self.assertEqual(self.findings(right, second, first, serves="possible")[0][1], "j")
@@ -174,7 +176,8 @@ class TestJudgeIndexes(unittest.TestCase):
         index = Index("i", "a", 0, ("equal", 1, 0), "p")
         gap = ("rules", "a", (0, None, None), (0, None, None))
         found = judge_indexes(world, IndexBook(index, writes="put", serves="possible"))
-        self.assertEqual(found, (("writes", "i", (0, 0, None), (None, 0, None)), ("serves", "i", (None, None, None)), gap))
+        serves = ("serves", "i", (None, None, None))
+        self.assertEqual(found, (("writes", "i", (0, 0, None), (None, 0, None)), serves, gap))
         found = judge_indexes(world, IndexBook(index, writes="column", serves="true"))
         self.assertEqual(found, (("writes", "i", (None, None, None), (None, 0, None)), ("errors", "i"), gap))
 
@@ -182,7 +185,8 @@ class TestJudgeIndexes(unittest.TestCase):
         seen = set()
         for chance in chances(40, "judge"):
             world = random_world(chance)
-            book = random_book(chance, world, chance.choice(("both", "column", "put")), chance.choice(("possible", "true")))
+            writes, serves = chance.choice(("both", "column", "put")), chance.choice(("possible", "true"))
+            book = random_book(chance, world, writes, serves)
             expected = searched_findings(world, book)
             seen |= {finding[0] for finding in expected}
             self.assertEqual(judge_indexes(world, book), expected)

@@ -249,17 +249,16 @@ class TestLanguage(unittest.TestCase):
             self.assertEqual(methods & stored, set(), self.place(path, node))
 
     def test_no_attribute_has_the_name_of_a_property(self):
-        decorated = [(node.name, [ast.unparse(item) for item in node.decorator_list]) for _, node in walk(ast.FunctionDef)]
-        properties = {name for name, decorators in decorated if "property" in decorators}
+        functions = [node for _, node in walk(ast.FunctionDef)]
+        properties = {node.name for node in functions if "property" in map(ast.unparse, node.decorator_list)}
         self.assertIn("as_rule", properties)
         for path, node in walk(ast.Attribute):
             if isinstance(node.ctx, ast.Store):
                 self.assertNotIn(node.attr, properties, self.place(path, node))
 
     def test_generators_are_iterated_at_once(self):
-        generators = {
-            node.name for _, node in walk(ast.FunctionDef) if any(isinstance(item, ast.Yield) for item in ast.walk(node))
-        }
+        functions = [node for _, node in walk(ast.FunctionDef)]
+        generators = {node.name for node in functions if any(isinstance(item, ast.Yield) for item in ast.walk(node))}
         for path, tree in TREES.items():
             above = parents(tree)
             for node in ast.walk(tree):
@@ -269,9 +268,19 @@ class TestLanguage(unittest.TestCase):
                     user = above[call]
                     looped = isinstance(user, (ast.For, ast.comprehension)) and user.iter is call
                     self.assertTrue(looped or ast.unparse(user).startswith("list("), self.place(path, node))
-        names = [node.name for _, node in walk(ast.FunctionDef)]
         for name in generators:
-            self.assertEqual(names.count(name), 1, name)
+            self.assertEqual([node.name for node in functions].count(name), 1, name)
+
+    def test_kept_sets_are_only_asked(self):
+        for path, tree in TREES.items():
+            for function in ast.walk(tree):
+                if not isinstance(function, ast.FunctionDef):
+                    continue
+                assigned = [node for node in ast.walk(function) if isinstance(node, ast.Assign)]
+                kept = {ast.unparse(node.targets[0]) for node in assigned if ast.unparse(node.value).startswith("set(")}
+                for node in ast.walk(function):
+                    if isinstance(node, ast.Attribute):
+                        self.assertNotIn(ast.unparse(node.value), kept, self.place(path, node))
 
     def test_default_values_are_plain(self):
         for path, node in walk(ast.FunctionDef):

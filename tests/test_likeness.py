@@ -7,7 +7,8 @@ from bookstogether.totals import Totals
 from bookstogether.hidingbooks import HidingBook
 from bookstogether.viewing import ask_table
 
-from tests.samples import ALWAYS, NEVER, ROWS, chances, plain_outcome, random_condition, random_heap, random_rules
+from tests.samples import ALWAYS, NEVER, ROWS, chances, plain_outcome, plain_shown, random_condition, random_heap
+from tests.samples import random_rules
 
 SHOWN, QUESTION = SummaryBook(alike="shown"), SummaryBook(alike="question")
 BOTH = (SHOWN, QUESTION)
@@ -29,8 +30,7 @@ def plain_serves(book, summary, rules, user, question):
         return False
     column = question[3] if len(question) == 5 else 0
     for row in ROWS:
-        hiding = [part for who, where, part in rules if (who, where) == (user, summary.table)]
-        shown = book.alike == "question" or all(plain_outcome(part, row) == "true" for part in hiding)
+        shown = book.alike == "question" or plain_shown(rules, user, summary.table, row)
         asked = plain_share(summary.kind, column, question[2], row if shown else None)
         if asked != plain_share(summary.kind, summary.column, summary.condition, row):
             return False
@@ -70,11 +70,13 @@ class TestServes(unittest.TestCase):
         summary = Summary("s", "a", "greatest", 1, ("not", ("equal", 1, 0)))
         self.assertEqual(self.told(summary, ("greatest", "a", ALWAYS, 1, "")), [False, False])
         self.assertEqual(self.told(summary, ("greatest", "a", ("below", 2, 2), 1, "")), [False, False])
-        self.assertEqual(self.told(Summary("s", "a", "greatest", 1, ("not", ("unknown", 1))), ("greatest", "a", ALWAYS, 1, "")), [True, True])
+        summary = Summary("s", "a", "greatest", 1, ("not", ("unknown", 1)))
+        self.assertEqual(self.told(summary, ("greatest", "a", ALWAYS, 1, "")), [True, True])
 
     def test_the_column_of_a_count_makes_no_difference(self):
         for column in range(3):
-            self.assertEqual(self.told(Summary("s", "a", "count", column, ALWAYS), ("count", "a", ALWAYS, "")), [True, True])
+            summary = Summary("s", "a", "count", column, ALWAYS)
+            self.assertEqual(self.told(summary, ("count", "a", ALWAYS, "")), [True, True])
 
     def test_hidden_rows(self):
         sight = Sight((1, "a", ("equal", 0, 0)))
@@ -105,13 +107,12 @@ class TestServes(unittest.TestCase):
         found = set()
         for chance in chances(300, "serves"):
             kind, column = chance.choice(("count", "sum", "greatest")), chance.randrange(2)
+            rules, user, book = random_rules(chance), chance.randrange(3), chance.choice(BOTH)
             condition = random_condition(chance, 2)
-            summary = Summary("s", chance.choice("aaab"), kind, chance.randrange(2), condition)
+            held = chance.choice((condition, ("and", condition, rules[0][2] if rules else ALWAYS)))
+            summary = Summary("s", chance.choice("aaab"), kind, chance.randrange(2), held)
             asked = chance.choice((condition, ("not", ("not", condition)), random_condition(chance, 2, True)))
             question = (kind, "a", asked, *((column,) if kind != "count" else ()), "")
-            rules, user, book = random_rules(chance), chance.randrange(3), chance.choice(BOTH)
-            if chance.randrange(2):
-                summary.condition = ("and", condition, ("and", *[rule[2] for rule in rules[:2]])) if len(rules) > 1 else ALWAYS
             told = serves(book, summary, Sight(*rules), user, question)
             self.assertIs(told, plain_serves(book, summary, rules, user, question))
             found.add((book.alike, told))

@@ -22,7 +22,8 @@ class TestLockBook(BookCase):
 
     def test_the_plain_book(self):
         book = LockBook()
-        self.assertEqual({name: getattr(book, name) for name in WORDS}, {name: words[0] for name, words in WORDS.items()})
+        for name, words in WORDS.items():
+            self.assertEqual(getattr(book, name), words[0])
 
     def test_each_word_of_each_option(self):
         for name, words in WORDS.items():

@@ -7,9 +7,8 @@ from bookstogether.lockmeets import deed_needs
 from bookstogether.running import everyone, run_plainly
 from bookstogether.worlds import World
 
-from tests.samples import ALWAYS, NEVER, WORLD, chances, plain_clash, plain_group, plain_outcome, random_heap
-from tests.samples import random_question, random_statement, random_world
-from tests.test_lockneeds import plain_meet
+from tests.samples import ALWAYS, NEVER, WORLD, chances, plain_clash, plain_group, plain_meet, plain_outcome
+from tests.samples import random_heap, random_question, random_statement, random_world
 
 # In WORLD, p gives every row of `a` its value at 0 as group, and q those with a 1 at 2 their value at 1.
 BY_TABLE = ("table",)

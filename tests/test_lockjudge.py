@@ -8,9 +8,8 @@ from bookstogether.lockjudge import judge_locks, matters, unguarded
 from bookstogether.lockneeds import read_needs, write_needs
 from bookstogether.worlds import World
 
-from tests.samples import ALWAYS, NEVER, ROWS, WORLD, chances, plain_group, plain_outcome, random_condition
-from tests.samples import random_question, random_world
-from tests.test_lockneeds import plain_meet
+from tests.samples import ALWAYS, NEVER, ROWS, WORLD, chances, plain_group, plain_meet, plain_outcome
+from tests.samples import random_condition, random_question, random_world
 
 BARE = World(("a", "b"))
 EVERY = [None] + ROWS
@@ -113,9 +112,9 @@ class TestUnguarded(unittest.TestCase):
                 self.assertEqual(found, (None, (None, None, None)))
 
     def test_a_question_that_nothing_matters_to(self):
+        book = LockBook(read="rows", write="row")
         for word in ("rows", "count"):
-            question = (word, "a", NEVER, "")
-            self.assertIsNone(unguarded(LockBook(read="rows", write="row"), question, ("table",), lambda old, new: False))
+            self.assertIsNone(unguarded(book, (word, "a", NEVER, ""), ("table",), lambda old, new: False))
 
     def test_a_row_that_divides_by_0_is_not_found(self):
         book = LockBook(read="rows", write="row")
@@ -159,7 +158,8 @@ class TestUnguarded(unittest.TestCase):
         index = Index("i", "a", 0, ("equal", 1, 0))
         book = LockBook(read="road", write="row")
         question = ("sum", "a", ("and", ("equal", 1, 0), ("below", 2, 2)), 2, "")
-        self.assertIsNone(unguarded(book, question, ("index", "i"), lambda *rows: any(r and index.holds(r) for r in rows)))
+        told = unguarded(book, question, ("index", "i"), lambda *rows: any(row and index.holds(row) for row in rows))
+        self.assertIsNone(told)
         entries = Entries(IndexBook(index, writes="column"))
         told = unguarded(book, question, ("index", "i"), lambda old, new: entries.touches(index, old, new))
         self.assertEqual(told, ((None, None, None), (None, 0, 1)))

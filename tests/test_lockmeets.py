@@ -5,8 +5,7 @@ from bookstogether.lockmeets import deed_needs, looser_at
 from bookstogether.lockneeds import read_needs, write_needs
 from bookstogether.names import is_name
 
-from tests.samples import chances
-from tests.test_lockneeds import plain_meet
+from tests.samples import chances, plain_meet
 
 BOOKS = [
     LockBook(read=read, write=write, checks=checks, kept=kept)

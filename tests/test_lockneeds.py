@@ -3,19 +3,11 @@ import unittest
 from bookstogether.lockbooks import LockBook
 from bookstogether.lockneeds import compatible, meet, read_needs, write_needs
 
-from tests.samples import chances
+from tests.samples import TOGETHER, chances, plain_meet
 
 STORE, TABLE, INDEX, SUMMARY = ("store",), ("table", "a"), ("index", "i"), ("summary", "s")
 KEY = ("key", "p", 0)
 MODES = ("s", "x", "is", "ix")
-TOGETHER = {("s", "s"), ("s", "is"), ("is", "s"), ("is", "is"), ("is", "ix"), ("ix", "is"), ("ix", "ix")}
-
-
-def plain_meet(needs, other):
-    """Whether two lists of needs meet, told by all pairs."""
-    return any(
-        node == beside and (mode, held) not in TOGETHER for node, mode in needs for beside, held in other
-    )
 
 
 class TestMeet(unittest.TestCase):
@@ -45,7 +37,8 @@ class TestMeet(unittest.TestCase):
     def test_against_all_pairs(self):
         nodes = [STORE, TABLE, INDEX, SUMMARY, ("row", 0), ("row", 1), KEY]
         for chance in chances(300, "meet"):
-            one, two = ([(chance.choice(nodes), chance.choice(MODES)) for _ in range(chance.randrange(4))] for _ in "ab")
+            pairs = [(chance.choice(nodes), chance.choice(MODES)) for _ in range(6)]
+            one, two = pairs[:chance.randrange(4)], pairs[3:3 + chance.randrange(4)]
             self.assertIs(meet(one, two), plain_meet(one, two))
 
 

@@ -4,8 +4,7 @@ import unittest
 from bookstogether.lockbooks import LockBook
 from bookstogether.locktables import LockTable
 
-from tests.samples import chances
-from tests.test_lockneeds import plain_meet
+from tests.samples import chances, plain_meet
 
 A, B, C, D = (("table", name) for name in "abcd")
 

@@ -6,8 +6,7 @@ from bookstogether.lockbooks import LockBook
 from bookstogether.locktables import LockTable
 from bookstogether.lockweaving import able, finishing, reached, ways, weave
 
-from tests.samples import chances
-from tests.test_lockneeds import plain_meet
+from tests.samples import chances, plain_meet
 
 A, B, C, D = (("table", name) for name in "abcd")
 
@@ -26,9 +25,9 @@ def random_script(chance, most=4):
 def plain_moves(state, scripts):
     """The places of the scripts that can move, told from all granted steps."""
     found = []
+    held = [script[:at] if at <= len(script) else [] for script, at in zip(scripts, state)]
     for place, script in enumerate(scripts):
-        others = [other[:at] for beside, (other, at) in enumerate(zip(scripts, state)) if beside != place and at <= len(other)]
-        granted = [step for steps in others for step in steps]
+        granted = [step for steps in held[:place] + held[place + 1:] for step in steps]
         at = state[place]
         if at == len(script) or at < len(script) and not any(plain_meet(script[at], step) for step in granted):
             found.append(place)
@@ -52,7 +51,8 @@ class TestWeave(unittest.TestCase):
 
     def test_one_script(self):
         events = self.weave(takes(A, B), turns=[0, 0, 0, 0, 0])
-        self.assertEqual(events, [(0, "granted", 0), (0, "granted", 1), (0, "ended", 2), (0, "idle", 2), (0, "idle", 2)])
+        words = [("granted", 0), ("granted", 1), ("ended", 2), ("idle", 2), ("idle", 2)]
+        self.assertEqual(events, [(0, *pair) for pair in words])
 
     def test_a_script_without_steps(self):
         self.assertEqual(self.weave([], turns=[0, 0]), [(0, "ended", 0), (0, "idle", 0)])

@@ -4,7 +4,7 @@ from bookstogether.errors import ZeroDivisor
 from bookstogether.hidingbooks import HidingBook
 from bookstogether.passing import counted, passes
 
-from tests.samples import ALWAYS, ROWS, chances, plain_outcome, random_condition, random_rules
+from tests.samples import ALWAYS, ROWS, chances, plain_outcome, plain_shown, random_condition, random_rules
 
 RULE = (1, "a", ("below", 1, 1))
 SHOWN, HIDDEN = (2, 0, 2), (2, 1, 2)
@@ -44,7 +44,7 @@ class TestPasses(unittest.TestCase):
             book = HidingBook(*rules, first=chance.choice(("hide", "ask")))
             user, table = chance.randrange(3), chance.choice("ab")
             for row in ROWS:
-                shown = all(plain_outcome(part, row) == "true" for who, where, part in rules if (who, where) == (user, table))
+                shown = plain_shown(rules, user, table, row)
                 told = plain_outcome(condition, row)
                 if told == "error" and (shown or book.first == "ask"):
                     with self.assertRaises(ZeroDivisor):

@@ -5,7 +5,8 @@ from bookstogether.rows import row_key
 from bookstogether.running import everyone, run_plainly
 from bookstogether.worlds import World
 
-from tests.samples import ALWAYS, NEVER, chances, plain_clash, plain_truth, random_condition, random_statement, random_world
+from tests.samples import ALWAYS, NEVER, chances, plain_clash, plain_truth, random_condition, random_statement
+from tests.samples import random_world
 
 # Rule p groups column 0, rule q column 1, both for all rows of a.
 WORLD = World(["a", "b"], [("p", "a", 0, ALWAYS), ("q", "a", 1, ALWAYS)])

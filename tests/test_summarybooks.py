@@ -21,13 +21,13 @@ def fields(one):
 
 class TestShares(unittest.TestCase):
     def test_share_at(self):
+        rows = [(2, 0, 0), (0, 0, 0), (None, 0, 0), (2, 1, 0), (2, None, 0), None]
         count = ("count", "a", ("equal", 1, 0), "")
-        self.assertEqual([share_at(count, row) for row in ((2, 0, 0), (None, 0, 0), (2, 1, 0), (2, None, 0), None)], [1, 1, 0, 0, 0])
+        self.assertEqual([share_at(count, row) for row in rows], [1, 1, 1, 0, 0, 0])
         total = ("sum", "a", ("equal", 1, 0), 0, "")
-        self.assertEqual([share_at(total, row) for row in ((2, 0, 0), (None, 0, 0), (2, 1, 0), (2, None, 0), None)], [2, 0, 0, 0, 0])
+        self.assertEqual([share_at(total, row) for row in rows], [2, 0, 0, 0, 0, 0])
         most = ("greatest", "a", ("equal", 1, 0), 0, "")
-        told = [share_at(most, row) for row in ((2, 0, 0), (0, 0, 0), (None, 0, 0), (2, 1, 0), (2, None, 0), None)]
-        self.assertEqual(told, [2, 0, None, None, None, None])
+        self.assertEqual([share_at(most, row) for row in rows], [2, 0, None, None, None, None])
 
     def test_division_by_0(self):
         for question in (("count", "a", ("quotient", 0, 1, 2), ""), ("sum", "a", ("quotient", 0, 1, 2), 0, "")):
@@ -126,7 +126,8 @@ class TestSummaryBook(BookCase):
 
     def test_options(self):
         for options in (
-            {"alike": "write"}, {"alike": ""}, {"undo": "shown"}, {"undo": None}, {"greatest": "image"}, {"greatest": "stay"},
+            {"alike": "write"}, {"alike": ""}, {"undo": "shown"}, {"undo": None}, {"greatest": "image"},
+            {"greatest": "stay"},
         ):
             self.invalid(**options)
 
@@ -156,8 +157,8 @@ class TestSummaryBook(BookCase):
         self.assertEqual(SummaryBook().lines(), [PLAIN])
         self.same_lines([PLAIN])
         book = SummaryBook(
-            summary("s", "b", "count", 2, ("not", ("unknown", 1))), summary("t", kind="greatest"), edges=(("t", "i"), ("x", "j")),
-            alike="question", undo="image", greatest="question",
+            summary("s", "b", "count", 2, ("not", ("unknown", 1))), summary("t", kind="greatest"),
+            edges=(("t", "i"), ("x", "j")), alike="question", undo="image", greatest="question",
         )
         lines = [
             "summaries alike question undo image greatest question", "summary s b count 2 not unknown 1",
@@ -166,19 +167,21 @@ class TestSummaryBook(BookCase):
         self.assertEqual(book.lines(), lines)
         again = self.same_lines(lines)
         self.assertEqual([fields(one) for one in again.summaries], [fields(one) for one in book.summaries])
-        self.assertEqual((again.edges, again.alike, again.undo, again.greatest), (book.edges, "question", "image", "question"))
+        self.assertEqual(again.edges, book.edges)
+        self.assertEqual((again.alike, again.undo, again.greatest), ("question", "image", "question"))
         self.same_lines([PLAIN, "edge s i"])
 
     def test_bad_lines(self):
         self.bad_first_lines(PLAIN)
         self.bad_line(0, "summaries undo difference alike shown greatest write")
         for line in (
-            "", "summary", "summary s a sum 0", "summary s a sum always", "summary s a sum 3 always", "summary s a sum 00 always",
-            "summary s a sum ? always", "summary s a rows 0 always", "summary s a least 0 always", "summary s a 0 sum always",
-            "summary s a count always", "summary - a sum 0 always", "summary s - sum 0 always", "summary on a sum 0 always",
-            "summary s a sum 0 always always", "summary s a sum 0 never", "summary s  a sum 0 always", "summary s a sum 0 always ",
-            "summary s a sum 0 " + write_condition(deep(11)), "edge", "edge s", "edge s i j", "edge s -", "edge - i", "edge s new",
-            "edge  s i", "edges s i", PLAIN,
+            "", "summary", "summary s a sum 0", "summary s a sum always", "summary s a sum 3 always",
+            "summary s a sum 00 always", "summary s a sum ? always", "summary s a rows 0 always",
+            "summary s a least 0 always", "summary s a 0 sum always", "summary s a count always",
+            "summary - a sum 0 always", "summary s - sum 0 always", "summary on a sum 0 always",
+            "summary s a sum 0 always always", "summary s a sum 0 never", "summary s  a sum 0 always",
+            "summary s a sum 0 always ", "summary s a sum 0 " + write_condition(deep(11)), "edge", "edge s",
+            "edge s i j", "edge s -", "edge - i", "edge s new", "edge  s i", "edges s i", PLAIN,
         ):
             self.bad_line(1, PLAIN, line)
             self.bad_line(2, PLAIN, "summary t a sum 0 always", line, "strange")

@@ -244,7 +244,8 @@ class TestAgainstASecondTelling(unittest.TestCase):
                 number = chance.randrange(heap.fresh + 1)
                 table, old = heap[number] if number in heap else (chance.choice("ab"), None)
                 new = chance.choice((None, random_row(chance), random_row(chance)))
-                names = [one.name for one in summaries if one.table == table and self.share(one, old) != self.share(one, new)]
+                own = [one for one in summaries if one.table == table]
+                names = [one.name for one in own if self.share(one, old) != self.share(one, new)]
                 self.assertEqual(totals.changes(table, old, new), tuple(names))
                 heap.write(table, number, new)
                 totals.write(table, number, old, new)
@@ -266,7 +267,9 @@ class TestAgainstASecondTelling(unittest.TestCase):
 
     def due(self, one, heap):
         shares = [self.share(one, row) for _, row in heap.pairs(one.table)]
-        return max([share for share in shares if share is not None], default=None) if one.kind == "greatest" else sum(shares)
+        if one.kind == "greatest":
+            return max([share for share in shares if share is not None], default=None)
+        return sum(shares)
 
     def follow(self, state, one, greatest, before, after, heap):
         """Have the pair of the kept value and the openness follow a change of a share."""

@@ -11,8 +11,8 @@ from bookstogether.statements import check_statement
 from bookstogether.viewing import ask_table, exposed, parting_question, probe, revealing, seem_alike, view
 from bookstogether.worlds import World
 
-from tests.samples import ALWAYS, NEVER, ROWS, chances, plain_outcome, random_condition, random_heap, random_question
-from tests.samples import random_row, random_rules
+from tests.samples import ALWAYS, NEVER, ROWS, chances, plain_outcome, plain_shown, random_condition, random_heap
+from tests.samples import random_question, random_row, random_rules
 
 WORLD = World(("a", "b"))
 RULE = (1, "a", ("below", 0, 1))
@@ -33,10 +33,6 @@ def copies(heap, *rows, table="a"):
     for row in rows:
         other.put(table, row)
     return other
-
-
-def plain_shown(rules, user, table, row):
-    return all(plain_outcome(part, row) == "true" for who, where, part in rules if (who, where) == (user, table))
 
 
 def plain_ask(book, user, heap, question):
@@ -115,7 +111,8 @@ class TestAskTable(unittest.TestCase):
     def test_against_a_second_telling(self):
         told = set()
         for chance in chances(150, "ask"):
-            book = HidingBook(*random_rules(chance), first=chance.choice(("hide", "ask")), told=chance.choice(("shown", "all")))
+            first, counts = chance.choice(("hide", "ask")), chance.choice(("shown", "all"))
+            book = HidingBook(*random_rules(chance), first=first, told=counts)
             heap, question, user = random_heap(chance, 10), random_question(chance, WORLD), chance.randrange(3)
             pair = ask_table(book, user, heap, question)
             self.assertEqual(pair, plain_ask(book, user, heap, question))
@@ -149,7 +146,8 @@ class TestRevealing(unittest.TestCase):
         book = HidingBook(RULE, first="ask")
         self.assertEqual(revealing(book, 1, ("count", "a", ZERO, "")), (None, 0, None))
         known = ("not", ("unknown", 0))
-        self.assertEqual(revealing(book, 1, ("sum", "a", ("and", known, ("and", ("equal", 0, 2), ZERO)), 1, "")), (2, 0, None))
+        question = ("sum", "a", ("and", known, ("and", ("equal", 0, 2), ZERO)), 1, "")
+        self.assertEqual(revealing(book, 1, question), (2, 0, None))
         # Where column 0 is unknown, so is the left part, and the right one is evaluated.
         self.assertEqual(revealing(book, 1, ("sum", "a", ("and", ("equal", 0, 2), ZERO), 1, "")), (None, 0, None))
         self.assertIsNone(revealing(book, 1, ("count", "a", ("and", known, ("and", ("equal", 0, 0), ZERO)), "")))
