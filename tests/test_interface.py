@@ -136,10 +136,29 @@ FUNCTIONS = {
     "lookjudge": {"counts_gap": "(condition)", "judge_looks": "(world, book)"},
     "summarybooks": {"share_at": "(question, row)", "greatest_known": "(shares)"},
     "likeness": {"serves": "(book, summary, sight, user, question)"},
+    "combining": {
+        "choices": "(names, *, signs=(1, -1))",
+        "misfit": "(summaries, pairs, question)",
+        "combination": "(summaries, question)",
+        "cover": "(summaries, question)",
+    },
+    "summaryjudge": {"judge_summaries": "(world, book)"},
+    "followers": {"apply_unit": "(world, heap, unit, *, totals=None, keepers=())"},
+    "logjudge": {"judge_log": "(world, book)"},
+    "logplays": {
+        "play": "(world, book, steps)",
+        "goes_wrong": "(world, book, steps)",
+        "least_play": "(world, book)",
+        "replayed": "(world, units)",
+        "shortened": "(units)",
+    },
+    "copyjudge": {"judge_copies": "(world, book)", "least_marks": "(promises)"},
+    "histories": {"least_history": "(book)"},
 }
 
 GENERATORS = {
     ("rows", "all_rows"), ("indexchoices", "position_choices"), ("lockweaving", "reached"), ("viewing", "exposed"),
+    ("combining", "choices"),
 }
 
 # For each class its arguments, and the methods that stand in it.
@@ -187,6 +206,19 @@ CLASSES = {
         "fill settle write add restore current is_open saved changes differences",
     ),
     ("totals", "GreatestOnly"): ("(totals)", "write"),
+    ("joining", "Join"): ("(first, second, *, summed)", "fill write pairs total peak"),
+    ("logbooks", "LogBook"): (
+        "(*, when='end', what='image', kept='own', confirm='with', cut='never')",
+        "WHEN WHAT KEPT CONFIRM CUT from_lines check lines",
+    ),
+    ("logs", "Log"): ("(book)", "begin wrote undone end back cut __len__ script_count unit"),
+    ("followers", "Follower"): ("(log, world, heap, totals, keepers)", "applied follow confirm stop catch_up"),
+    ("copybooks", "CopyBook"): (
+        "(*, served=False, marks=(), promises=(), hides=True, indexes='own', summaries='own')",
+        "INDEXES SUMMARIES kept_by from_lines check lines",
+    ),
+    ("sessions", "Sessions"): ("(book)", "ended answered mark lets broken"),
+    ("histories", "History"): ("(book, *, copies=2)", "__call__ run broken as_promised __len__ __iter__"),
 }
 
 # The arguments of methods, without the first one.
@@ -204,6 +236,15 @@ METHODS = {
     ("totals", "Totals", "add"): "(name, difference)",
     ("totals", "Totals", "restore"): "(name, pair)",
     ("totals", "GreatestOnly", "write"): "(table, number, old, new)",
+    ("joining", "Join", "fill"): "(heap)",
+    ("joining", "Join", "write"): "(table, number, old, new)",
+    ("logs", "Log", "wrote"): "(script, statement, changes)",
+    ("logs", "Log", "undone"): "(script, changes)",
+    ("logs", "Log", "script_count"): "(applied)",
+    ("sessions", "Sessions", "ended"): "(user, position, wrote)",
+    ("sessions", "Sessions", "broken"): "(user, position)",
+    ("histories", "History", "__call__"): "(event)",
+    ("histories", "History", "run"): "(*events)",
 }
 
 

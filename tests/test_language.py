@@ -223,7 +223,8 @@ class TestLanguage(unittest.TestCase):
                 user = above[node]
                 looped = isinstance(user, (ast.For, ast.comprehension)) and user.iter is node
                 called = isinstance(user, ast.Call) and getattr(user.func, "id", "") in ("list", "tuple")
-                self.assertTrue(looped or called, self.place(path, node))
+                asked = isinstance(user, ast.Compare) and node.func.id == "range"
+                self.assertTrue(looped or called or asked, self.place(path, node))
 
     def test_handlers_name_own_errors(self):
         own = {node.name for node in TREES[FOLDER / "errors.py"].body if isinstance(node, ast.ClassDef)}
