@@ -11,16 +11,12 @@ class Side:
         self.table, self.column, self.condition = side
         self.counts = {}
 
-    def add(self, table, row, difference):
+    def note(self, table, row, difference):
         """Let a row of a table, or None, stand on the side so many times more."""
         if row is None or table != self.table or row[self.column] is None:
             return
         if truth(self.condition, row):
             self.counts[row] = self.counts.get(row, 0) + difference
-
-    def clear(self):
-        """Have no rows."""
-        self.counts = {}
 
     def partners(self, value):
         """Return the number of the rows on the side with this value at its column."""
@@ -34,28 +30,26 @@ class Join:
         self.first = tuple(first)
         self.second = tuple(second)
         self.summed = summed
-        self.left = Side(self.first)
-        self.other = Side(self.second)
+        self.sides = [Side(self.first), Side(self.second)]
 
     def fill(self, heap):
         """Take the rows of a heap instead of the own ones."""
-        self.left.clear()
-        self.other.clear()
-        for number in heap:
-            table, row = heap[number]
-            self.write(table, number, None, row)
+        self.sides = [Side(self.first), Side(self.second)]
+        for table, row in [heap[number] for number in heap]:
+            for side in self.sides:
+                side.note(table, row, 1)
 
     def write(self, table, number, old, new):
         """Take the new row of a table, or None, instead of the old one."""
-        for side in (self.left, self.other):
-            side.add(table, old, -1)
-            side.add(table, new, 1)
+        for side in self.sides:
+            side.note(table, old, -1)
+            side.note(table, new, 1)
 
     def _numbers(self):
         """Return, for each row on the first side, the pair of its value at `summed` and the number of its pairs."""
-        column = self.left.column
-        counts = self.left.counts.items()
-        return [(row[self.summed], count * self.other.partners(row[column])) for row, count in counts]
+        side, other = self.sides
+        counts = side.counts
+        return [(row[self.summed], count * other.partners(row[side.column])) for row, count in counts.items()]
 
     def pairs(self):
         """Return the number of the pairs."""

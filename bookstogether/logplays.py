@@ -8,19 +8,7 @@ from bookstogether.logs import Log
 from bookstogether.rows import FREE
 from bookstogether.running import everyone, run_plainly
 from bookstogether.statements import check_statement
-
-SLOTS = (0, 1)
-
-# For the first word of each step what its other parts are.
-STEPS = {
-    "do": ("user", "statement"),
-    "end": ("user",),
-    "back": ("user",),
-    "follow": ("slot",),
-    "confirm": ("slot",),
-    "stop": ("slot",),
-    "cut": (),
-}
+from bookstogether.turns import SLOTS, has_form
 
 
 def replayed(world, units):
@@ -48,11 +36,10 @@ def shortened(units):
 
 def _is_step(world, step):
     """Tell whether a tuple is a step of a play."""
-    if len(step) == 0 or step[0] not in STEPS or len(step) != 1 + len(STEPS[step[0]]):
+    if not has_form(step) or step[0] == "ask":
         return False
-    if "slot" in STEPS[step[0]]:
-        return step[1] in SLOTS
-    if "user" in STEPS[step[0]] and step[1] not in range(len(world)):
+    # A user is the place of a table.
+    if step[0] in ("do", "end", "back") and step[1] >= len(world):
         return False
     return step[0] != "do" or _is_statement_about(world, step[2], world.tables[step[1]])
 

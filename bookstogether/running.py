@@ -19,6 +19,11 @@ def _pair_key(pair):
     return (row_key(row), number)
 
 
+def in_order(pairs):
+    """Return pairs of a number and a row in the order in which a statement takes them."""
+    return sorted(pairs, key=_pair_key)
+
+
 class PlainRun:
     """The carrying out of one statement about a table, for somebody who sees some rows."""
 
@@ -49,7 +54,7 @@ class PlainRun:
 
     def found(self, condition):
         """Return the found pairs, in the order in which they are taken."""
-        return sorted([pair for pair in self.seen() if truth(condition, pair[1])], key=_pair_key)
+        return in_order([pair for pair in self.seen() if truth(condition, pair[1])])
 
     def check_new(self, number, new):
         """Refuse a new row under a number, for what is stored under the other numbers."""
@@ -91,22 +96,27 @@ class PlainRun:
         """Change the one row that clashes with the asked one by a named rule, or add the asked one."""
         if not self.sees(self.table, asked):
             raise HiddenRow()
-        pairs = self.clashing([rule for rule in self.rules if rule[0] in names], asked)
+        pair = self.upserted_pair(asked, names)
+        if pair is None:
+            return self.run_put(asked)
+        number, old = pair
+        new = upserted(old, asked, sets)
+        if new != old:
+            self.check_new(number, new)
+            self.store(number, old, new)
+        return self.tell_upsert(asked, old, new)
+
+    def upserted_pair(self, asked, names):
+        """Return the one seen pair whose row clashes with the asked one by a named rule, or None."""
+        rules = [rule for rule in self.rules if rule[0] in names]
+        pairs = [pair for pair in self.seen() if any([clash(rule, asked, pair[1]) for rule in rules])]
         if len(pairs) > 1:
             raise Ambiguous()
-        if len(pairs) == 0:
-            return self.run_put(asked)
-        number, old = pairs[0]
-        new = upserted(old, asked, sets)
-        if new == old:
-            return ("kept", old)
-        self.check_new(number, new)
-        self.store(number, old, new)
-        return ("changed", old, new)
+        return pairs[0] if len(pairs) == 1 else None
 
-    def clashing(self, rules, asked):
-        """Return the seen pairs whose rows clash with the asked one by at least one of the rules."""
-        return [pair for pair in self.seen() if any([clash(rule, asked, pair[1]) for rule in rules])]
+    def tell_upsert(self, asked, old, new):
+        """Return the tell of an upsert that found the old row and made the new one."""
+        return ("kept", old) if new == old else ("changed", old, new)
 
     def undo(self):
         """Take the writes back, the last one first."""

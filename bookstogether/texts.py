@@ -37,9 +37,18 @@ def read_statement(text):
     return statement
 
 
+def take_question(reader):
+    """Take the words of a question."""
+    return _take_behind(reader, reader.take_one_of(QUESTIONS))
+
+
 def take_statement(reader):
     """Take the words of a statement."""
-    word = reader.take_one_of(WRITES + QUESTIONS)
+    return _take_behind(reader, reader.take_one_of(WRITES + QUESTIONS))
+
+
+def _take_behind(reader, word):
+    """Take the words of a statement behind its first one."""
     table = reader.take_name()
     if word == "put":
         return (word, table, reader.take_row())
@@ -90,9 +99,14 @@ def write_world(world):
 
 def read_world(text):
     """Return the world of a text."""
+    return read_world_lines(list(enumerate(text.split("\n"), start=1)))
+
+
+def read_world_lines(lines):
+    """Return the world that is written in pairs of a line number and a line."""
     tables = []
     rules = []
-    for line, words in enumerate(text.split("\n"), start=1):
+    for line, words in lines:
         reader = LineReader(line, words)
         # Behind a rule there is no line for a table.
         if reader.take_one_of(("rule",) if rules else ("table", "rule")) == "table":
@@ -118,10 +132,15 @@ def write_store(store):
 
 def read_store(world, text, sight=None):
     """Return a store with the rows of a text."""
-    pairs = []
     # The empty text is a store without rows, not an empty line.
     lines = [] if text == "" else text.split("\n")
-    for line, words in enumerate(lines, start=1):
+    return read_store_lines(world, list(enumerate(lines, start=1)), sight)
+
+
+def read_store_lines(world, lines, sight):
+    """Return a store with the rows that are written in pairs of a line number and a line."""
+    pairs = []
+    for line, words in lines:
         reader = LineReader(line, words)
         reader.take_one_of(("row",))
         table = reader.take_name()

@@ -58,7 +58,8 @@ class TestTouches(unittest.TestCase):
             self.assertEqual(self.touched(writes, [((2, 0, 0), (2, 1, 0)), ((None, 0, 0), (2, 1, 0))]), [False] * 2)
 
     def test_from_unknown_to_known(self):
-        self.assertEqual(self.touched("column", [((0, None, 0), (0, 0, 0)), ((0, None, 0), (1, None, 1))]), [True, False])
+        self.assertEqual(self.touched("column", [((0, None, 0), (0, 0, 0)), ((0, None, 0), (1, None, 1))]),
+                         [True, False])
 
 
 class TestEntries(unittest.TestCase):

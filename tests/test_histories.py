@@ -83,7 +83,8 @@ class TestHistory(unittest.TestCase):
 
 class TestWrongEvents(unittest.TestCase):
     WRONG = [
-        (), ("end",), ("end", 0), ("end", 3, True), ("end", -1, False), ("end", 0, True, 0), ("end", 0, None), ("move",),
+        (), ("end",), ("end", 0), ("end", 3, True), ("end", -1, False), ("end", 0, True, 0), ("end", 0, None),
+        ("move",),
         ("move", 2), ("move", -1), ("move", 0, 0), ("back", 2), ("back",), ("ask", 0), ("ask", 3, 0), ("ask", 0, 2),
         ("ask", 0, 0, 0), ("ask", None, 0), ("strange",), ("strange", 0), ("", 0), ("do", 0, ()), ("end", 0, "yes"),
     ]

@@ -154,6 +154,15 @@ FUNCTIONS = {
     },
     "copyjudge": {"judge_copies": "(world, book)", "least_marks": "(promises)"},
     "histories": {"least_history": "(book)"},
+    "shelves": {"shelf_of": "(world, books, heap)"},
+    "deeds": {"carry_out": "(shelf, user, statement, road)"},
+    "needing": {"statement_needs": "(shelf, user, statement, road)"},
+    "turns": {"check_turn": "(world, turn, at)", "write_turn": "(turn)"},
+    "dues": {"desk_faults": "(desk)", "story_faults": "(world, books, store, story)"},
+    "meetings": {"meet_books": "(world, books, first, second)"},
+    "judging": {"judge": "(world, books)"},
+    "meetingstories": {"least_story": "(world, books, parts, finding)"},
+    "wholetexts": {"write_whole": "(world, books, store, story)", "read_whole": "(text)"},
 }
 
 GENERATORS = {
@@ -219,6 +228,14 @@ CLASSES = {
     ),
     ("sessions", "Sessions"): ("(book)", "ended answered mark lets broken"),
     ("histories", "History"): ("(book, *, copies=2)", "__call__ run broken as_promised __len__ __iter__"),
+    ("bookshelf", "Books"): (
+        "(*, upserts=None, indexes=None, locks=None, hiding=None, looks=None, summaries=None, log=None, copies=None)",
+        "book only altered check lines",
+    ),
+    ("shelves", "Shelf"): ("(world, books, heap, entries, totals)", "road ask write"),
+    ("weaving", "Main"): ("(world, books, heap, log)", "do end back order"),
+    ("desks", "Desk"): ("(world, books, store)", "__call__ run __len__ __iter__"),
+    ("judging", "Verdict"): ("(findings, paper)", "right found_in __len__ __iter__"),
 }
 
 # The arguments of methods, without the first one.
@@ -245,6 +262,17 @@ METHODS = {
     ("sessions", "Sessions", "broken"): "(user, position)",
     ("histories", "History", "__call__"): "(event)",
     ("histories", "History", "run"): "(*events)",
+    ("bookshelf", "Books", "book"): "(part)",
+    ("bookshelf", "Books", "only"): "(*parts)",
+    ("bookshelf", "Books", "altered"): "(**books)",
+    ("shelves", "Shelf", "road"): "(user, question)",
+    ("shelves", "Shelf", "ask"): "(user, question, road)",
+    ("shelves", "Shelf", "write"): "(table, number, old, new, *, kept=True)",
+    ("weaving", "Main", "do"): "(user, statement, road)",
+    ("weaving", "Main", "order"): "()",
+    ("desks", "Desk", "__call__"): "(turn)",
+    ("desks", "Desk", "run"): "(*turns)",
+    ("judging", "Verdict", "found_in"): "(*parts)",
 }
 
 
@@ -274,4 +302,5 @@ class TestInterface(unittest.TestCase):
     def test_methods(self):
         for (name, word, method), arguments in METHODS.items():
             found = getattr(importlib.import_module(f"bookstogether.{name}"), word)
-            self.assertEqual(signature(getattr(found, method)).replace("self, ", ""), arguments, (word, method))
+            self.assertEqual(signature(getattr(found, method)).replace("self, ", "").replace("(self)", "()"), arguments,
+                             (word, method))

@@ -97,7 +97,14 @@ class TestLanguage(unittest.TestCase):
                 if isinstance(node, ast.Assign):
                     self.assertEqual(len(node.targets), 1, where)
                     self.assertIsInstance(node.targets[0], ast.Name, where)
-                    ast.literal_eval(node.value)
+                    above = {item.name for item in tree.body[:at] if isinstance(item, ast.FunctionDef)}
+                    table = node.value.values if isinstance(node.value, ast.Dict) else [node.value]
+                    if all(isinstance(item, ast.Name) for item in table):
+                        self.assertLessEqual({item.id for item in table}, above, where)
+                        for item in node.value.keys:
+                            ast.literal_eval(item)
+                    else:
+                        ast.literal_eval(node.value)
 
     def test_imports(self):
         graph = {own_module(path): set() for path in FILES}
@@ -245,7 +252,8 @@ class TestLanguage(unittest.TestCase):
         for path, node in walk(ast.ClassDef):
             methods = {item.name for item in node.body if isinstance(item, ast.FunctionDef)}
             stored = {
-                item.attr for item in ast.walk(node) if isinstance(item, ast.Attribute) and isinstance(item.ctx, ast.Store)
+                item.attr for item in ast.walk(node)
+                if isinstance(item, ast.Attribute) and isinstance(item.ctx, ast.Store)
             }
             self.assertEqual(methods & stored, set(), self.place(path, node))
 
@@ -282,6 +290,18 @@ class TestLanguage(unittest.TestCase):
                 for node in ast.walk(function):
                     if isinstance(node, ast.Attribute):
                         self.assertNotIn(ast.unparse(node.value), kept, self.place(path, node))
+
+    def test_what_stands_behind_a_star_in_a_call(self):
+        for path, node in walk(ast.Call):
+            for part in [part.value for part in node.args if isinstance(part, ast.Starred)]:
+                self.assertIsInstance(part, (ast.Name, ast.Attribute), self.place(path, node))
+            for part in [part.value for part in node.keywords if part.arg is None]:
+                self.assertIsInstance(part, ast.Name, self.place(path, node))
+
+    def test_nothing_in_an_init_returns(self):
+        for path, node in walk(ast.FunctionDef):
+            if node.name == "__init__":
+                self.assertFalse(any(isinstance(item, ast.Return) for item in ast.walk(node)), self.place(path, node))
 
     def test_default_values_are_plain(self):
         for path, node in walk(ast.FunctionDef):

@@ -41,7 +41,8 @@ class TestShortened(unittest.TestCase):
         units = [
             (0, (self.row(1), self.row(2), self.row(1, 1))), (1, (self.row(3),)), (2, (self.row(2, 2), self.row(4))),
         ]
-        self.assertEqual(shortened(units), [(0, (self.row(1, 1),)), (1, (self.row(3),)), (2, (self.row(2, 2), self.row(4)))])
+        self.assertEqual(shortened(units),
+                         [(0, (self.row(1, 1),)), (1, (self.row(3),)), (2, (self.row(2, 2), self.row(4)))])
 
     def test_units_without_parts_stay(self):
         units = [(0, (self.row(1),)), (1, ()), (2, (("row", "a", 1, None),))]
@@ -146,7 +147,8 @@ class TestPlay(unittest.TestCase):
         self.assertEqual(play(BARE, LogBook(cut="least"), steps), (state, state, state))
         self.assertEqual(play(BARE, LogBook(cut="never"), steps), (state, state, state))
         self.assertEqual(play(BARE, LogBook(cut="greatest"), steps), (state, state, empty))
-        self.assertEqual(play(BARE, LogBook(cut="greatest"), [*steps[:2], ("follow", 1), ("cut",)]), (state, empty, state))
+        self.assertEqual(play(BARE, LogBook(cut="greatest"), [*steps[:2], ("follow", 1), ("cut",)]),
+                         (state, empty, state))
         self.assertEqual(play(BARE, LogBook(cut="greatest", confirm="behind"), steps), (state, state, state))
         confirmed = [*steps[:3], ("confirm", 0), ("cut",)]
         self.assertEqual(play(BARE, LogBook(cut="greatest", confirm="behind"), confirmed), (state, state, empty))
@@ -172,7 +174,8 @@ class TestPlay(unittest.TestCase):
             statements = [random_statement(chance, world) for _ in range(30)]
             slots = [(word, slot) for word in ("follow", "follow", "confirm", "stop") for slot in (0, 1)]
             steps = [("do", "ab".index(statement[1]), statement) for statement in statements]
-            steps += [chance.choice([*slots, ("cut",), ("end", 0), ("end", 1), ("back", 0), ("back", 1)]) for _ in steps]
+            others = [*slots, ("cut",), ("end", 0), ("end", 1), ("back", 0), ("back", 1)]
+            steps += [chance.choice(others) for _ in steps]
             chance.shuffle(steps)
             for book in all_books():
                 if judge_log(world, book) == ():

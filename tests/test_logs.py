@@ -248,7 +248,8 @@ class TestPlaces(unittest.TestCase):
 
     def test_cut_least(self):
         log = self.filled(4, cut="least")
-        for positions, start in (([], 0), ([0, 3], 0), ([3, 2], 2), ((1, 4), 2), ([3], 3), ([0], 3), ([], 3), ([4, 4], 4)):
+        for positions, start in (([], 0), ([0, 3], 0), ([3, 2], 2), ((1, 4), 2), ([3], 3), ([0], 3), ([], 3),
+                                 ([4, 4], 4)):
             log.cut(positions)
             self.assertEqual(log.start, start)
         self.assertEqual(len(log), 4)

@@ -59,7 +59,8 @@ class TestNames(unittest.TestCase):
             self.assertIsNone(check_name(name))
 
     def test_no_names(self):
-        for name in ("", "abcdefghi", "on", "set", "new", "A", "aB", "a1", "a b", " a", "a\n", "a-", "-", "?", "\u00e4"):
+        for name in ("", "abcdefghi", "on", "set", "new", "A", "aB", "a1", "a b", " a", "a\n", "a-", "-", "?",
+                     "\u00e4"):
             self.assertIs(is_name(name), False, name)
             with self.assertRaises(InvalidName) as caught:
                 check_name(name)

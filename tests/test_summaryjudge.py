@@ -19,7 +19,8 @@ class TestJudge(unittest.TestCase):
 
     def test_a_greatest_value_that_stays(self):
         top = Summary("top", "a", "greatest", 1, ALWAYS)
-        self.assertEqual(judge_summaries(WORLD, SummaryBook(top, greatest="stays")), (("stays", "top", (None, 0, None)),))
+        self.assertEqual(judge_summaries(WORLD, SummaryBook(top, greatest="stays")),
+                         (("stays", "top", (None, 0, None)),))
         top = Summary("top", "b", "greatest", 2, ("equal", 0, 2))
         self.assertEqual(judge_summaries(WORLD, SummaryBook(top, greatest="stays")), (("stays", "top", (2, None, 0)),))
 
@@ -45,7 +46,8 @@ class TestJudge(unittest.TestCase):
             ]
             wanted = [
                 (("stays", one.name, row),) for one in summaries for row in ROWS
-                if one.kind == "greatest" and row[one.column] is not None and plain_outcome(one.condition, row) == "true"
+                if one.kind == "greatest" and row[one.column] is not None and plain_outcome(one.condition,
+                                                                                            row) == "true"
             ]
             found = judge_summaries(WORLD, SummaryBook(*summaries, greatest="stays"))
             self.assertEqual(found, wanted[0] if wanted else ())

@@ -190,7 +190,8 @@ class TestLeastNames(unittest.TestCase):
             names = statement[3]
             tuples = [()] + [(name,) for name in names] + [names]
             expected = [
-                fewer for fewer in tuples if parting(world, statement, statement[:3] + (fewer, statement[4]), sees=sees) is None
+                fewer for fewer in tuples if parting(world, statement, statement[:3] + (fewer, statement[4]),
+                                                     sees=sees) is None
             ]
             self.assertEqual(least_names(world, statement, sees=sees), expected[0])
 
