@@ -309,7 +309,8 @@ STORIES = {
 
 def least_story(world, books, parts, finding):
     """Return a store and turns under which a finding of these parts shows, and of which each turn is needed."""
-    told = STORIES[(*parts, finding[0])]
+    kind = (*parts, finding[0])
+    told = STORIES[kind]
     rows, turns = told(world, books, finding)
     store = Store(world, books.only(*parts).hiding.sight)
     for table, row in rows:

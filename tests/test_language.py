@@ -52,6 +52,14 @@ def parents(tree):
     return {child: node for node in ast.walk(tree) for child in ast.iter_child_nodes(node)}
 
 
+def starred_indexes(tree):
+    """The nodes with an index or a slice that has a star anywhere between its brackets."""
+    return [
+        node for node in ast.walk(tree)
+        if isinstance(node, ast.Subscript) and any(isinstance(item, ast.Starred) for item in ast.walk(node.slice))
+    ]
+
+
 def own_module(path):
     parts = path.relative_to(FOLDER.parent).with_suffix("").parts
     return ".".join(part for part in parts if part != "__init__")
@@ -297,6 +305,16 @@ class TestLanguage(unittest.TestCase):
                 self.assertIsInstance(part, (ast.Name, ast.Attribute), self.place(path, node))
             for part in [part.value for part in node.keywords if part.arg is None]:
                 self.assertIsInstance(part, ast.Name, self.place(path, node))
+
+    def test_no_star_stands_in_an_index(self):
+        for path, tree in TREES.items():
+            self.assertEqual([self.place(path, node) for node in starred_indexes(tree)], [])
+
+    def test_a_star_in_an_index_is_found(self):
+        for line in ("a[(*b, 1)]", "a[*b, 1]", "a[(*b, 1)] = 0", "a[0][(1, (*b,))].c", "a[[*b][0]]", "a[:len([*b])]"):
+            self.assertNotEqual(starred_indexes(ast.parse(line)), [], line)
+        for line in ("key = (*b, 1)", "a[key]", "(*a, 1)[0]", "f(*a)[0]", "[*a[0], a[1:]]", "b, *c = a[0]"):
+            self.assertEqual(starred_indexes(ast.parse(line)), [], line)
 
     def test_nothing_in_an_init_returns(self):
         for path, node in walk(ast.FunctionDef):
